@@ -31,3 +31,6 @@ func Rises[E any](l []E, compare func(a, b E) int) bool {
 	}
 	return true
 }
+
+// Copy makes a new list of the same elements (nil, if there are none).
+func Copy[E any](l []E) []E { return append([]E(nil), l...) }

@@ -2,6 +2,7 @@ package list_test
 
 import (
 	"cmp"
+	"slices"
 	"testing"
 
 	"mason/list"
@@ -43,5 +44,21 @@ func TestRises(t *testing.T) {
 		if list.Rises(l, cmp.Compare[int]) {
 			t.Errorf("%v rises", l)
 		}
+	}
+}
+
+func TestCopy(t *testing.T) {
+	if list.Copy([]int(nil)) != nil || list.Copy([]int{}) != nil {
+		t.Error("a copy of nothing is not nil")
+	}
+	room := []int{1, 2, 3}
+	c := list.Copy(room[:2])
+	if !slices.Equal(c, []int{1, 2}) {
+		t.Errorf("Copy = %v", c)
+	}
+	c[0] = 9
+	_ = append(c, 9)
+	if !slices.Equal(room, []int{1, 2, 3}) {
+		t.Errorf("the copy shares room: %v", room)
 	}
 }

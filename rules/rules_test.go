@@ -73,3 +73,46 @@ func TestWaitsForItself(t *testing.T) {
 		t.Errorf("what was handed in was written into: %v", spare)
 	}
 }
+
+func TestWaits(t *testing.T) {
+	l := []api.Resource{
+		{ID: id("k", "a"), After: []api.ID{id("k", "b"), id("k", "e")}},
+		{ID: id("k", "b"), After: []api.ID{id("k", "c")}},
+		{ID: id("k", "c")},
+		{ID: id("k", "d"), After: []api.ID{id("k", "a")}},
+		{ID: id("k", "e")},
+	}
+	waits := map[string]string{"a": "bce", "b": "c", "c": "", "d": "abce", "e": "", "none": ""}
+	for name, want := range waits {
+		for _, other := range []string{"a", "b", "c", "d", "e"} {
+			got := rules.Waits(l, id("k", name), func(x api.ID) bool { return x == id("k", other) })
+			if got != strings.Contains(want, other) {
+				t.Errorf("%s waits for %s: %v", name, other, got)
+			}
+		}
+	}
+}
+
+func TestAreWhole(t *testing.T) {
+	a, b, c := id("k", "a"), id("k", "b"), id("k", "c")
+	for _, l := range [][]api.Resource{
+		nil, {}, {{ID: a}}, {{ID: a, After: []api.ID{b}}, {ID: b}}, {{ID: a}, {ID: b, After: []api.ID{a}}},
+		{{ID: a, After: []api.ID{b, c}}, {ID: b, After: []api.ID{c}}, {ID: c}},
+	} {
+		if !rules.AreWhole(l) {
+			t.Errorf("%v are not whole", l)
+		}
+	}
+	for _, l := range [][]api.Resource{
+		{{}}, {{ID: b}, {ID: a}}, {{ID: a}, {ID: a}},
+		{{ID: a, After: []api.ID{b}}}, {{ID: a, After: []api.ID{b, c}}, {ID: b}}, {{ID: a, After: []api.ID{b, c}}, {ID: c}}, {{ID: a}, {ID: b, After: []api.ID{c}}},
+		{{ID: a, After: []api.ID{id("l", "b")}}, {ID: b}}, {{ID: a, After: []api.ID{id("k", "bb")}}, {ID: b}},
+		{{ID: a, After: []api.ID{a}}}, {{ID: a, After: []api.ID{b}}, {ID: b, After: []api.ID{a}}},
+		{{ID: a}, {ID: b, After: []api.ID{c}}, {ID: c, After: []api.ID{b}}},
+		{{ID: a, After: []api.ID{b}}, {ID: b, After: []api.ID{c}}, {ID: c, After: []api.ID{a}}},
+	} {
+		if rules.AreWhole(l) {
+			t.Errorf("%v are whole", l)
+		}
+	}
+}

@@ -38,6 +38,16 @@ func (t *Table[K, V]) Has(key K) bool {
 	return there
 }
 
+// Get tells the value of a key, and whether the key is there.
+func (t *Table[K, V]) Get(key K) (V, bool) {
+	at, there := t.find(key)
+	if !there {
+		var none V
+		return none, false
+	}
+	return t.rows[at].value, true
+}
+
 // Put keeps a value for a key, in the place of the one that it had.
 func (t *Table[K, V]) Put(key K, value V) {
 	at, there := t.find(key)
@@ -46,6 +56,18 @@ func (t *Table[K, V]) Put(key K, value V) {
 		return
 	}
 	t.rows = slices.Insert(t.rows, at, row[K, V]{key, value})
+}
+
+// Take takes a key out, and tells the value that it had, and whether it was there.
+func (t *Table[K, V]) Take(key K) (V, bool) {
+	at, there := t.find(key)
+	if !there {
+		var none V
+		return none, false
+	}
+	value := t.rows[at].value
+	t.rows = slices.Delete(t.rows, at, at+1)
+	return value, true
 }
 
 // All goes through the keys and their values, by rising keys.

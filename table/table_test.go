@@ -71,3 +71,33 @@ func TestListsAreNew(t *testing.T) {
 		t.Errorf("the table has %v, %v", e.Keys(), e.Values())
 	}
 }
+
+func TestGet(t *testing.T) {
+	e := table.New[string, int](strings.Compare)
+	e.Put("b", 2)
+	e.Put("d", 4)
+	for key, want := range map[string]int{"a": 0, "b": 2, "c": 0, "d": 4, "e": 0} {
+		if n, there := e.Get(key); n != want || there != (want != 0) {
+			t.Errorf("Get(%q) = %d, %v", key, n, there)
+		}
+	}
+	if !slices.Equal(e.Keys(), []string{"b", "d"}) {
+		t.Errorf("the table has %v", e.Keys())
+	}
+}
+
+func TestTake(t *testing.T) {
+	e := table.New[string, int](strings.Compare)
+	for i, key := range []string{"a", "b", "c", "d"} {
+		e.Put(key, i+1)
+	}
+	for _, c := range []struct {
+		key  string
+		want int
+		left []string
+	}{{"b", 2, []string{"a", "c", "d"}}, {"b", 0, []string{"a", "c", "d"}}, {"d", 4, []string{"a", "c"}}, {"z", 0, []string{"a", "c"}}, {"a", 1, []string{"c"}}, {"c", 3, nil}, {"c", 0, nil}} {
+		if n, there := e.Take(c.key); n != c.want || there != (c.want != 0) || !slices.Equal(e.Keys(), c.left) || e.Len() != len(c.left) {
+			t.Errorf("Take(%q) = %d, %v, and %v are left", c.key, n, there, e.Keys())
+		}
+	}
+}
