@@ -22,6 +22,11 @@ func New[K, V any](compare func(a, b K) int) *Table[K, V] {
 	return &Table[K, V]{compare: compare}
 }
 
+// Copy makes a table of the same keys and values, that changes by itself.
+func (t *Table[K, V]) Copy() *Table[K, V] {
+	return &Table[K, V]{compare: t.compare, rows: slices.Clone(t.rows)}
+}
+
 // find tells where a key stands, or would stand, and whether it is there.
 func (t *Table[K, V]) find(key K) (int, bool) {
 	return slices.BinarySearchFunc(t.rows, key, func(r row[K, V], key K) int {

@@ -101,3 +101,18 @@ func TestTake(t *testing.T) {
 		}
 	}
 }
+
+func TestCopy(t *testing.T) {
+	e := table.New[string, int](strings.Compare)
+	e.Put("b", 1)
+	c := e.Copy()
+	e.Put("b", 2)
+	e.Put("a", 3)
+	c.Put("c", 4)
+	if !slices.Equal(e.Keys(), []string{"a", "b"}) || !slices.Equal(e.Values(), []int{3, 2}) {
+		t.Errorf("the table has %v, %v", e.Keys(), e.Values())
+	}
+	if !slices.Equal(c.Keys(), []string{"b", "c"}) || !slices.Equal(c.Values(), []int{1, 4}) {
+		t.Errorf("its copy has %v, %v", c.Keys(), c.Values())
+	}
+}
