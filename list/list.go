@@ -34,3 +34,12 @@ func Rises[E any](l []E, compare func(a, b E) int) bool {
 
 // Copy makes a new list of the same elements (nil, if there are none).
 func Copy[E any](l []E) []E { return append([]E(nil), l...) }
+
+// Map makes a new list of what each element becomes (nil, if there are none).
+func Map[E, F any](l []E, become func(E) F) []F {
+	var made []F
+	for _, e := range l {
+		made = append(made, become(e))
+	}
+	return made
+}

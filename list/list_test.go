@@ -62,3 +62,12 @@ func TestCopy(t *testing.T) {
 		t.Errorf("the copy shares room: %v", room)
 	}
 }
+
+func TestMap(t *testing.T) {
+	if list.Map(nil, odd) != nil || list.Map([]int{}, odd) != nil {
+		t.Error("what nothing becomes is not nil")
+	}
+	if l := list.Map([]int{1, 2, 3, 3}, odd); !slices.Equal(l, []bool{true, false, true, true}) {
+		t.Errorf("Map = %v", l)
+	}
+}

@@ -17,3 +17,8 @@ func Same(a, b api.Resource) bool {
 func Copy(r api.Resource) api.Resource {
 	return api.Resource{ID: r.ID, Attrs: list.Copy(r.Attrs), After: list.Copy(r.After)}
 }
+
+// CopyStep makes a step that shares no list with the one it is made of.
+func CopyStep(s api.Step) api.Step {
+	return api.Step{Op: s.Op, Resource: Copy(s.Resource)}
+}

@@ -1,6 +1,12 @@
 // Package wire: numbers and texts as bytes.
 package wire
 
+// How many bytes stand ahead of a record in a journal: its length, and its Sum.
+const (
+	LengthSize = 2
+	SumSize    = 4
+)
+
 // AppendNumber puts a number behind b, in size bytes, the highest first.
 func AppendNumber(b []byte, n, size int) []byte {
 	for i := size - 1; i >= 0; i-- {
